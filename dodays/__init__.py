@@ -1,0 +1,1 @@
+"""Dodays: things to do, day by day."""
