@@ -37,6 +37,23 @@ def bound_names(tree):
     return names
 
 
+def defined_names(tree):
+    """All names that a file defines itself at module level."""
+    names = set()
+    for node in tree.body:
+        if isinstance(node, (ast.FunctionDef, ast.ClassDef)):
+            names.add(node.name)
+        elif isinstance(node, ast.Assign):
+            names.update(target.id for target in node.targets)
+    return names
+
+
+def imports_of(tree):
+    """Pairs of a file and a name that a file imports from it."""
+    return [(node.module.removeprefix("dodays.") + ".py", alias.name)
+            for node in tree.body if isinstance(node, ast.ImportFrom) for alias in node.names]
+
+
 class LanguageTest(unittest.TestCase):
     def test_files_and_signs(self):
         self.assertIn("__init__.py", FILES)
@@ -67,6 +84,28 @@ class LanguageTest(unittest.TestCase):
                         self.assertEqual(node.level, 0)
                         self.assertRegex(node.module, r"\Adodays\.[a-z_]+\Z")
                         self.assertNotIn("*", [alias.name for alias in node.names])
+
+    def test_imports_name_the_file_that_defines_and_make_no_ring(self):
+        trees = {file: ast.parse(text) for file, text in FILES.items()}
+        ahead = {file: {other for other, _ in imports_of(tree)} for file, tree in trees.items()}
+        for file, tree in trees.items():
+            for other, name in imports_of(tree):
+                self.assertIn(name, defined_names(trees[other]), (file, other))
+        while ahead:
+            free = [file for file, others in ahead.items() if not others & set(ahead)]
+            self.assertNotEqual(free, [], ahead)
+            for file in free:
+                del ahead[file]
+
+    def test_no_local_name_hides_an_import_or_a_class(self):
+        for file, text in FILES.items():
+            tree = ast.parse(text)
+            above = {name for _, name in imports_of(tree)}
+            above |= {node.name for node in tree.body if isinstance(node, ast.ClassDef)}
+            for node in tree.body:
+                if isinstance(node, ast.FunctionDef):
+                    with self.subTest(file=file, function=node.name):
+                        self.assertEqual(bound_names(node) & above, set())
 
     def test_names(self):
         for file, text in FILES.items():
