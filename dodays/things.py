@@ -16,6 +16,8 @@ RULE = 7
 HAND = 8
 DONE = 9
 MANY_FIELDS = 10
+# Their names, each at its place.
+FIELDS = ("number", "text", "weight", "start", "due", "wants", "parent", "rule", "hand", "done")
 
 LAST_NUMBER = 999
 GREATEST_WEIGHT = 9
@@ -87,7 +89,7 @@ def is_list(thing):
         return False
     if not all(one in numbers and other in numbers for one, other in leanings(thing)):
         return False
-    return not any(number in under(thing, number) for number in numbers)
+    return leaning_on_themselves(thing) == ()
 
 
 def partings(things):
@@ -130,6 +132,11 @@ def over(things, number):
     return reached([(other, one) for one, other in leanings(things)], number)
 
 
+def leaning_on_themselves(things):
+    """Tell the numbers of all that lean on themselves, by others or not, in the list's order."""
+    return tuple(thing[NUMBER] for thing in things if thing[NUMBER] in under(things, thing[NUMBER]))
+
+
 def parts_under(things, number):
     """Tell the parts of a thing, theirs, and so on, rising."""
     return reached(partings(things), number)
@@ -155,3 +162,13 @@ def with_worth(things, number, field, worth):
         thing[:field] + (worth,) + thing[field + 1:] if thing[NUMBER] == number else thing
         for thing in things
     )
+
+
+def wanting_what_is_there(things):
+    """Tell the list without wants of numbers that are none of its own."""
+    numbers = [thing[NUMBER] for thing in things]
+    told = things
+    for thing in things:
+        wants = tuple(other for other in thing[WANTS] if other in numbers)
+        told = with_worth(told, thing[NUMBER], WANTS, wants)
+    return told

@@ -1,4 +1,4 @@
-"""Some rules of the language that a file can be asked for: sizes, signs, words, imports, names."""
+"""Some rules of the language that a file can be asked for: sizes, signs, words, imports, names, refusals."""
 
 import ast
 import builtins
@@ -120,6 +120,47 @@ class LanguageTest(unittest.TestCase):
                         self.assertIn(node.id, bound | BUILTINS)
                     if isinstance(node, ast.Call) and isinstance(node.func, ast.Attribute):
                         self.assertIn(node.func.attr, METHODS)
+
+    def test_module_level(self):
+        for file, text in FILES.items():
+            tree = ast.parse(text)
+            names = [name for _, name in imports_of(tree)]
+            for at, node in enumerate(tree.body):
+                with self.subTest(file=file, line=node.lineno):
+                    if isinstance(node, ast.Expr):
+                        self.assertEqual(at, 0)
+                        self.assertIsInstance(node.value.value, str)
+                    elif isinstance(node, ast.Assign):
+                        names.append(node.targets[0].id)
+                        self.assertEqual(len(node.targets), 1)
+                        ast.literal_eval(node.value)
+                    elif isinstance(node, (ast.FunctionDef, ast.ClassDef)):
+                        names.append(node.name)
+                        self.assertEqual(node.decorator_list, [])
+                    else:
+                        self.assertIsInstance(node, ast.ImportFrom)
+            self.assertEqual(len(names), len(set(names)), file)
+
+    def test_refusals_are_raised_and_caught_by_name(self):
+        own = defined_names(ast.parse(FILES["errors.py"]))
+        for file, text in FILES.items():
+            for node in ast.walk(ast.parse(text)):
+                with self.subTest(file=file, line=getattr(node, "lineno", 0)):
+                    if isinstance(node, ast.Raise):
+                        self.assertIn(node.exc.func.id, own)
+                        self.assertTrue(all(isinstance(given, ast.Constant) for given in node.exc.args))
+                    if isinstance(node, ast.ExceptHandler):
+                        self.assertIn(node.type.id, own)
+
+    def test_keywords_of_builtins(self):
+        for file, text in FILES.items():
+            for node in ast.walk(ast.parse(text)):
+                if isinstance(node, ast.Call):
+                    with self.subTest(file=file, line=node.lineno):
+                        words = {keyword.arg for keyword in node.keywords}
+                        name = node.func.id if isinstance(node.func, ast.Name) else None
+                        allowed = {"sorted": {"key", "reverse"}, "min": {"key", "default"}, "max": {"key", "default"}}
+                        self.assertLessEqual(words, allowed.get(name, set()))
 
     def test_statements_and_values(self):
         barred = (ast.Global, ast.AsyncFunctionDef, ast.Await, ast.Div)
